@@ -72,3 +72,8 @@ def same(one, other):
     if isinstance(one, (tuple, list)):
         return len(one) == len(other) and all(same(a, b) for a, b in zip(one, other))
     return one == other
+
+
+GROUND = (("b", "a"), (
+    ("n", 1, NUM), ("low", 0, LOW), ("b", 2, CHAIN), ("s", 1, SET), ("w", 0, DIAMOND)))
+NESTED_GROUND = (("x",), (("r", 0, ROW), ("m", 1, NEWER), ("q", 1, ROW_IN_NEWER), ("p", 0, NEWER_IN_ROW)))

@@ -1,0 +1,66 @@
+"""Roofs: bounds of things, each a height or no bound at all."""
+
+from onlyrise.heights import at_least, joined, least
+from onlyrise.kinds import is_tuple
+from onlyrise.orders import is_height
+from onlyrise.things import is_thing, order_of, things_of
+
+# No height is this text, as no name has such a sign.
+NO_BOUND = "*"
+
+
+def is_roof(ground, thing):
+    if not isinstance(thing, tuple) or not all([is_entry(ground, entry) for entry in thing]):
+        return False
+    things = [entry[0] for entry in thing]
+    return all([one < other for one, other in zip(things, things[1:])])
+
+
+def is_entry(ground, thing):
+    return is_tuple(thing, 2, 2) and is_thing(ground, thing[0]) and is_bound(order_of(ground, thing[0]), thing[1])
+
+
+def is_bound(order, thing):
+    return thing == NO_BOUND or (is_height(order, thing) and thing != least(order))
+
+
+def bound_in(ground, roof, thing):
+    for other, bound in roof:
+        if other == thing:
+            return bound
+    return least(order_of(ground, thing))
+
+
+def raised(ground, roof, thing, bound):
+    return joined_roofs(ground, roof, ((thing, bound),))
+
+
+def joined_roofs(ground, one, other):
+    bounds = dict(one)
+    for thing, bound in other:
+        bounds[thing] = joined_bounds(order_of(ground, thing), bound_in(ground, one, thing), bound)
+    return roof_of(ground, bounds)
+
+
+def joined_bounds(order, one, other):
+    if one == NO_BOUND or other == NO_BOUND:
+        return NO_BOUND
+    return joined(order, one, other)
+
+
+def roof_of(ground, bounds):
+    high = [thing for thing in sorted(bounds) if bounds[thing] != least(order_of(ground, thing))]
+    return tuple([(thing, bounds[thing]) for thing in high])
+
+
+def widest(ground):
+    return tuple([(thing, NO_BOUND) for thing in things_of(ground)])
+
+
+def is_under(ground, one, other):
+    # What the one does not have is least there, and so under anything.
+    return all([fits_under(order_of(ground, thing), bound, bound_in(ground, other, thing)) for thing, bound in one])
+
+
+def fits_under(order, one, other):
+    return other == NO_BOUND or (one != NO_BOUND and at_least(order, other, one))
