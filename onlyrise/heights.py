@@ -14,10 +14,16 @@ def least(order):
     if sort == "set":
         return ()
     if sort == "web":
-        return lowest_of(order[2], order[1])[0]
+        return least_in_web(order[1], order[2])
     if sort == "row":
         return tuple([least(part) for part in order[1]])
     return (0, least(order[1]))
+
+
+def least_in_web(names, pairs):
+    # All other names are over the least one, so it alone is never the higher one of a pair.
+    higher = [pair[1] for pair in pairs]
+    return [name for name in names if name not in higher][0]
 
 
 def at_least(order, one, other):

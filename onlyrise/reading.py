@@ -6,10 +6,10 @@ from onlyrise.orders import MOST_WITHIN, is_height, is_order
 from onlyrise.roofs import NO_BOUND, is_roof
 from onlyrise.standings import is_standing
 from onlyrise.things import head_called, is_spoken, order_of
+from onlyrise.trees import MOST_TREES_WITHIN
 
 FIGURES = "0123456789"
 MOST_FIGURES = 400
-MOST_TREES_WITHIN = 5
 
 
 def read_number(text):

@@ -36,10 +36,14 @@ def raised(ground, roof, thing, bound):
 
 
 def joined_roofs(ground, one, other):
+    higher = above(ground, other, one)
+    if len(higher) == 0:
+        return one
     bounds = dict(one)
-    for thing, bound in other:
+    for thing, bound in higher:
+        # It is not under what it is joined with, so they join to more than the least.
         bounds[thing] = joined_bounds(order_of(ground, thing), bound_in(ground, one, thing), bound)
-    return roof_of(ground, bounds)
+    return tuple([(thing, bounds[thing]) for thing in sorted(bounds)])
 
 
 def joined_bounds(order, one, other):
@@ -48,18 +52,21 @@ def joined_bounds(order, one, other):
     return joined(order, one, other)
 
 
-def roof_of(ground, bounds):
-    high = [thing for thing in sorted(bounds) if bounds[thing] != least(order_of(ground, thing))]
-    return tuple([(thing, bounds[thing]) for thing in high])
-
-
 def widest(ground):
     return tuple([(thing, NO_BOUND) for thing in things_of(ground)])
 
 
 def is_under(ground, one, other):
-    # What the one does not have is least there, and so under anything.
-    return all([fits_under(order_of(ground, thing), bound, bound_in(ground, other, thing)) for thing, bound in one])
+    return len(above(ground, one, other)) == 0
+
+
+def above(ground, one, other):
+    # What the one does not have is least there, and so above nothing.
+    found = []
+    for thing, bound in one:
+        if not fits_under(order_of(ground, thing), bound, bound_in(ground, other, thing)):
+            found.append((thing, bound))
+    return found
 
 
 def fits_under(order, one, other):

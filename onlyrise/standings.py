@@ -15,6 +15,13 @@ def lifted(ground, standing, thing, height):
     return raised(ground, standing, thing, height)
 
 
+def all_lifted(ground, standing, entries):
+    # One thing may stand in several of the entries.
+    for thing, height in entries:
+        standing = lifted(ground, standing, thing, height)
+    return standing
+
+
 def joined_standings(ground, one, other):
     return joined_roofs(ground, one, other)
 

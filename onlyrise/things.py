@@ -47,15 +47,15 @@ def things_of(ground):
     for head in ground[1]:
         things = [(head[0],)]
         for place in range(head[1]):
-            things = with_each_name(things, ground[0])
+            things = with_each(things, ground[0])
         found.extend(things)
     return sorted(found)
 
 
-def with_each_name(things, names):
+def with_each(rows, words):
     found = []
-    for thing in things:
-        found.extend([thing + (name,) for name in names])
+    for row in rows:
+        found.extend([row + (word,) for word in words])
     return found
 
 
