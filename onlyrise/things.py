@@ -4,15 +4,18 @@ from onlyrise.kinds import is_count, is_tuple
 from onlyrise.names import are_unlike_names, is_mark
 from onlyrise.orders import is_order
 
+MOST_NAMES = 4
+MOST_HEADS = 5
+
 
 def is_ground(thing):
-    return is_tuple(thing, 2, 2) and are_unlike_names(thing[0], 1, 4) and are_heads(thing[1])
+    return is_tuple(thing, 2, 2) and are_unlike_names(thing[0], 1, MOST_NAMES) and are_heads(thing[1])
 
 
 def are_heads(thing):
     if not isinstance(thing, tuple) or not all([is_head(head) for head in thing]):
         return False
-    return are_unlike_names(tuple([head[0] for head in thing]), 1, 5)
+    return are_unlike_names(tuple([head[0] for head in thing]), 1, MOST_HEADS)
 
 
 def is_head(thing):

@@ -36,6 +36,7 @@ KEYWORDS = {
     "sorted": {"key", "reverse"}, "min": {"key", "default"}, "max": {"key", "default"},
     "sum": {"start"}, "enumerate": {"start"}, "zip": {"strict"},
 }
+WALKERS = set("list tuple dict sorted sum any all enumerate zip min max".split())
 NEVER_WORDS = re.compile(
     r"\b(type|typing|typing_extensions|enum|Enum|IntEnum|StrEnum|Flag|IntFlag|Generic|Protocol|ABC|ABCMeta"
     r"|namedtuple|NamedTuple|TypedDict|TYPE_CHECKING|abstractmethod)\b|dataclass|overload|contextmanager"
@@ -227,6 +228,19 @@ class Language(unittest.TestCase):
             self.assertNotIn(node.type.id, ("Exception", "TypeError"), (name, node.lineno))
         for name, node in nodes(ast.Raise):
             self.assertIsInstance(node.exc, ast.Call, (name, node.lineno))
+
+    def test_walked_at_once(self):
+        walked = set()
+        for name, node in nodes((ast.For, ast.comprehension)):
+            walked.add((name, node.iter.lineno, node.iter.col_offset))
+        for name, node in nodes(ast.Call):
+            if isinstance(node.func, ast.Name) and node.func.id in WALKERS and node.args:
+                first = node.args if node.func.id in ("zip", "min", "max") else node.args[:1]
+                walked.update((name, inner.lineno, inner.col_offset) for inner in first)
+        for name, node in nodes(ast.Call):
+            word = node.func.id if isinstance(node.func, ast.Name) else getattr(node.func, "attr", "")
+            if word in ("zip", "enumerate", "reversed", "range", "items", "keys", "values"):
+                self.assertIn((name, node.lineno, node.col_offset), walked)
 
     def test_sets_are_not_kept(self):
         beside = set()
