@@ -1,7 +1,7 @@
 """Cases done on standings."""
 
-from onlyrise.heights import at_least, least, met
-from onlyrise.standings import all_lifted
+from onlyrise.heights import at_least, joined, least, met
+from onlyrise.roofs import roof_by
 from onlyrise.things import order_of
 from onlyrise.trees import cases_of, ground_of, leaves_of, named_rule, number_added, sources_of
 
@@ -15,11 +15,13 @@ def goes_by_yes(ground, heights, asking):
 
 
 def leaf_at(program, standing, case):
-    heights = dict(standing)
-    tree = named_rule(program, case)
+    return leaf_in(ground_of(program), dict(standing), named_rule(program, case))
+
+
+def leaf_in(ground, heights, tree):
     number = 0
     while tree[0] == "ask":
-        if goes_by_yes(ground_of(program), heights, tree):
+        if goes_by_yes(ground, heights, tree):
             tree = tree[3]
         else:
             number += len(leaves_of(tree[3]))
@@ -55,10 +57,25 @@ def values_put(ground, heights, puts):
     return [(thing, value_of(ground, heights, term)) for thing, term in puts]
 
 
+def risen_by(ground, heights, tree):
+    # The things that a tree's puts raise, each with the height that it rises to.
+    risen = {}
+    for thing, value in values_put(ground, heights, puts_at(ground, heights, tree)):
+        order = order_of(ground, thing)
+        # A put ahead may have raised it already; but the values are all told by the heights ahead of both.
+        ahead = height_by(ground, risen if thing in risen else heights, thing)
+        if not at_least(order, ahead, value):
+            risen[thing] = joined(order, ahead, value)
+    return risen
+
+
 def tree_done(ground, standing, tree):
-    # All values are told by the standing ahead, so before the first of them is joined in.
     heights = dict(standing)
-    return all_lifted(ground, standing, values_put(ground, heights, puts_at(ground, heights, tree)))
+    risen = risen_by(ground, heights, tree)
+    if len(risen) == 0:
+        return standing
+    heights.update(risen)
+    return roof_by(heights)
 
 
 def done(program, standing, case):

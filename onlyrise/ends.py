@@ -1,28 +1,40 @@
 """Ends sought by rounds, and papers for them."""
 
-from onlyrise.doing import tree_done
+from onlyrise.doing import risen_by
 from onlyrise.endchecker import link_of
+from onlyrise.roofs import roof_by
 from onlyrise.trees import cases_of, ground_of, leaves_of, named_rule
 
 MOST_DONE = 200
 
 
 def rounds_from(program, standing, most):
+    # Each round but the last does a case, so there are never more rounds than that.
+    return rounds_along(ground_of(program), trees_by_case(program), standing, most, most + 1)
+
+
+def trees_by_case(program):
+    return [(case, named_rule(program, case)) for case in cases_of(program)]
+
+
+def rounds_along(ground, trees, standing, most_cases, most_rounds):
     # Told is (cases done, standing behind them, whether it is closed).
-    trees = [(case, named_rule(program, case)) for case in cases_of(program)]
+    heights = dict(standing)
     cases = []
-    ahead = -1
-    while ahead < len(cases):
+    closed = False
+    while not closed and most_rounds > 0:
         ahead = len(cases)
         for case, tree in trees:
-            higher = tree_done(ground_of(program), standing, tree)
-            if higher == standing:
+            risen = risen_by(ground, heights, tree)
+            if len(risen) == 0:
                 continue
-            if len(cases) == most:
-                return (tuple(cases), standing, False)
+            if len(cases) == most_cases:
+                return (tuple(cases), roof_by(heights), False)
             cases.append(case)
-            standing = higher
-    return (tuple(cases), standing, True)
+            heights.update(risen)
+        closed = len(cases) == ahead
+        most_rounds -= 1
+    return (tuple(cases), roof_by(heights), closed)
 
 
 def least_closed(program, standing):

@@ -3,10 +3,9 @@
 from onlyrise.doing import done
 from onlyrise.errors import NoDeed
 from onlyrise.kinds import is_count, is_tuple
-from onlyrise.orders import is_height
-from onlyrise.roofs import is_roof, is_under
-from onlyrise.standings import height_in, joined_standings, lifted
-from onlyrise.things import is_thing, order_of
+from onlyrise.roofs import all_joined, is_roof, is_under
+from onlyrise.standings import height_in, lifted
+from onlyrise.things import is_risen, is_thing
 from onlyrise.trees import ground_of, is_case
 
 
@@ -24,10 +23,7 @@ def caps_known(hall, hand):
 
 
 def put_in(program, hall):
-    standing = ()
-    for puts in hall[2]:
-        standing = joined_standings(ground_of(program), standing, puts)
-    return standing
+    return all_joined(ground_of(program), hall[2])
 
 
 def run(program, many, deeds):
@@ -66,10 +62,6 @@ def deed_done(program, hall, deed):
 
 def is_hand(hall, thing):
     return is_count(thing) and thing < len(hall[0])
-
-
-def is_risen(ground, thing, height):
-    return is_thing(ground, thing) and is_height(order_of(ground, thing), height)
 
 
 def with_put(ground, hall, hand, thing, height):

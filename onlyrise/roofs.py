@@ -43,7 +43,18 @@ def joined_roofs(ground, one, other):
     for thing, bound in higher:
         # It is not under what it is joined with, so they join to more than the least.
         bounds[thing] = joined_bounds(order_of(ground, thing), bound_in(ground, one, thing), bound)
+    return roof_by(bounds)
+
+
+def roof_by(bounds):
     return tuple([(thing, bounds[thing]) for thing in sorted(bounds)])
+
+
+def all_joined(ground, roofs):
+    found = ()
+    for roof in roofs:
+        found = joined_roofs(ground, found, roof)
+    return found
 
 
 def joined_bounds(order, one, other):

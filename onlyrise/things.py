@@ -2,7 +2,7 @@
 
 from onlyrise.kinds import is_count, is_tuple
 from onlyrise.names import are_unlike_names, is_mark
-from onlyrise.orders import is_order
+from onlyrise.orders import is_height, is_order
 
 MOST_NAMES = 4
 MOST_HEADS = 5
@@ -25,6 +25,10 @@ def is_head(thing):
 
 def is_thing(ground, thing):
     return has_words(ground, thing) and all([word in ground[0] for word in thing[1:]])
+
+
+def is_risen(ground, thing, height):
+    return is_thing(ground, thing) and is_height(order_of(ground, thing), height)
 
 
 def is_spoken(ground, thing):
