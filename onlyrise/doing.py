@@ -1,7 +1,7 @@
-"""Cases done on standings."""
+"""Cases done on standings, and likewise on roofs: a standing is a roof, too, so bounds are reckoned with all along."""
 
-from onlyrise.heights import at_least, joined, least, met
-from onlyrise.roofs import roof_by
+from onlyrise.heights import least
+from onlyrise.roofs import NO_BOUND, fits_under, joined_bounds, met_bounds, roof_by
 from onlyrise.things import order_of
 from onlyrise.trees import cases_of, ground_of, leaves_of, named_rule, number_added, sources_of
 
@@ -11,7 +11,7 @@ def height_by(ground, heights, thing):
 
 
 def goes_by_yes(ground, heights, asking):
-    return at_least(order_of(ground, asking[1]), height_by(ground, heights, asking[1]), asking[2])
+    return fits_under(order_of(ground, asking[1]), asking[2], height_by(ground, heights, asking[1]))
 
 
 def leaf_at(program, standing, case):
@@ -47,9 +47,11 @@ def value_from(order, term, heights):
     if term[0] == "of":
         return heights[0]
     if term[0] == "meet":
-        return met(order, heights[0], heights[1])
+        return met_bounds(order, heights[0], heights[1])
     if None in heights:
         return None
+    if NO_BOUND in heights:
+        return NO_BOUND
     return sum(heights) + number_added(term)
 
 
@@ -64,8 +66,8 @@ def risen_by(ground, heights, tree):
         order = order_of(ground, thing)
         # A put ahead may have raised it already; but the values are all told by the heights ahead of both.
         ahead = height_by(ground, risen if thing in risen else heights, thing)
-        if not at_least(order, ahead, value):
-            risen[thing] = joined(order, ahead, value)
+        if not fits_under(order, value, ahead):
+            risen[thing] = joined_bounds(order, ahead, value)
     return risen
 
 
@@ -89,4 +91,12 @@ def walked(program, standing, cases):
 
 
 def is_closed(program, standing):
-    return all([done(program, standing, case) == standing for case in cases_of(program)])
+    return first_change(program, standing) is None
+
+
+def first_change(program, standing):
+    # The number of the first case that changes it, or None where it is closed.
+    for number, case in enumerate(cases_of(program)):
+        if done(program, standing, case) != standing:
+            return number
+    return None

@@ -8,6 +8,8 @@ from onlyrise.standings import height_in, lifted
 from onlyrise.things import is_risen, is_thing
 from onlyrise.trees import ground_of, is_case
 
+MOST_HANDS = 4
+
 
 def first_hall(program, many):
     nothing = ((),) * many

@@ -2,10 +2,8 @@
 
 from onlyrise.ended import is_ended
 from onlyrise.errors import NoDeed, NoPaper
-from onlyrise.halls import put_in, run, standing_of
+from onlyrise.halls import MOST_HANDS, put_in, run, standing_of
 from onlyrise.kinds import is_count, is_tuple
-
-MOST_HANDS = 4
 
 
 def lets_parting(program, one, other):

@@ -1,6 +1,6 @@
 """Roofs: bounds of things, each a height or no bound at all."""
 
-from onlyrise.heights import at_least, joined, least
+from onlyrise.heights import at_least, joined, least, met
 from onlyrise.kinds import is_tuple
 from onlyrise.orders import is_height
 from onlyrise.things import is_thing, order_of, things_of
@@ -61,6 +61,12 @@ def joined_bounds(order, one, other):
     if one == NO_BOUND or other == NO_BOUND:
         return NO_BOUND
     return joined(order, one, other)
+
+
+def met_bounds(order, one, other):
+    if one == NO_BOUND or other == NO_BOUND:
+        return other if one == NO_BOUND else one
+    return met(order, one, other)
 
 
 def widest(ground):

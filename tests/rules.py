@@ -4,6 +4,7 @@ import copy
 
 from onlyrise.halls import deed_done, first_hall
 from onlyrise.heights import least
+from onlyrise.roofs import raised
 from onlyrise.standings import lifted
 from onlyrise.things import order_of
 from onlyrise.trees import cases_of
@@ -132,3 +133,19 @@ def some_hall(chance, given, many, most=25):
     for place in range(chance.randrange(most)):
         hall = deed_done(given, hall, some_deed(chance, given, hall))
     return hall
+
+
+def some_roof(chance, ground, most=4):
+    roof = ()
+    for place in range(chance.randrange(most + 1)):
+        thing = some_thing(chance, ground)
+        roof = raised(ground, roof, thing, "*" if chance.random() < 0.4 else some_height(chance, order_of(ground, thing)))
+    return roof
+
+
+def some_asking(chance, ground, deep=2):
+    sort = chance.choice(("least", "both", "either", "not")) if deep else "least"
+    if sort == "least":
+        thing = some_thing(chance, ground)
+        return (sort, thing, some_height(chance, order_of(ground, thing)))
+    return (sort,) + tuple(some_asking(chance, ground, deep - 1) for place in range(1 if sort == "not" else 2))

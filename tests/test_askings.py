@@ -9,7 +9,7 @@ from onlyrise.roofs import bound_in, widest
 from onlyrise.standings import height_in, is_over, is_standing, joined_standings
 from onlyrise.things import order_of, things_of
 from tests import samples
-from tests.rules import GROUND, n, some_standing
+from tests.rules import GROUND, n, some_asking, some_standing
 from tests.samples import CHAIN, LOW, NUM, OTHER_THINGS, SET, TWENTY, same, some_heights
 
 C, S = ("c",), ("s",)
@@ -34,14 +34,6 @@ def told_apart(ground, standing, asking):
         return at_least(order, height_in(ground, standing, asking[1]), asking[2])
     parts = [told_apart(ground, standing, part) for part in asking[1:]]
     return not parts[0] if asking[0] == "not" else all(parts) if asking[0] == "both" else any(parts)
-
-
-def some_asking(chance, leasts, deep):
-    sort = chance.choice(("least", "both", "either", "not")) if deep else "least"
-    if sort == "least":
-        return chance.choice(leasts)
-    parts = [some_asking(chance, leasts, deep - 1) for k in range(1 if sort == "not" else 2)]
-    return (sort,) + tuple(parts)
 
 
 class IsAsking(unittest.TestCase):
@@ -142,9 +134,8 @@ class Holds(unittest.TestCase):
 
     def test_as_the_words_tell(self):
         chance = random.Random(43)
-        leasts = [("least", n("a"), 2), ("least", n("b"), 1), ("least", S, ("a", "b")), ("least", C, "done"), ("least", low("b"), 1)]
         for number in range(1500):
-            asking = some_asking(chance, leasts, 4)
+            asking = some_asking(chance, GROUND)
             standing = some_standing(chance, GROUND, 5)
             self.holds(standing, asking, told_apart(GROUND, standing, asking))
 
@@ -165,10 +156,9 @@ class OnlyRises(unittest.TestCase):
 
     def test_once_it_holds_it_holds_above(self):
         chance = random.Random(44)
-        leasts = [("least", n("a"), 2), ("least", S, ("a", "b")), ("least", C, "done"), ("least", low("b"), 1)]
         seen = 0
         for number in range(1500):
-            asking = some_asking(chance, leasts, 3)
+            asking = some_asking(chance, GROUND)
             if only_rises(asking):
                 one = some_standing(chance, GROUND, 5)
                 higher = joined_standings(GROUND, one, some_standing(chance, GROUND, 5))
@@ -240,12 +230,11 @@ class WordBetween(unittest.TestCase):
         for row in itertools.product(*heights):
             standings.append(tuple(pair for pair in zip(things_of(ground), row) if pair[1] != least(order_of(ground, pair[0]))))
         self.assertTrue(all(is_standing(ground, standing) for standing in standings))
-        leasts = [("least", ("n",), 2), ("least", ("low",), 1), ("least", ("c",), "done"), ("least", ("s",), ("a", "b")), ("least", ("n",), 3)]
         seen = {"yes": 0, "no": 0, "open": 0}
         for number in range(150):
             lower = chance.choice(standings)
             roof = joined_standings(ground, lower, chance.choice(standings))
-            asking = some_asking(chance, leasts, 3)
+            asking = some_asking(chance, ground)
             between = [one for one in standings if is_over(ground, one, lower) and is_over(ground, roof, one)]
             word = word_between(ground, lower, roof, asking)
             seen[word] += 1
